@@ -1,0 +1,1 @@
+"""Stuckbell: who can never go on, and a bell that rings when that is known."""
