@@ -7,7 +7,7 @@ MOST_HANDS = 40
 
 def need(waits):
     """True for good waits; whatever else is handed in is refused with BadWaits."""
-    if not isinstance(waits, list) or not 1 <= len(waits) <= MOST_HANDS:
+    if type(waits) is not list or not 1 <= len(waits) <= MOST_HANDS:
         raise BadWaits(None)
     for at, wait in enumerate(waits):
         if not is_wait(wait, len(waits)):
@@ -42,40 +42,46 @@ def shows(waits, hands):
     return all([is_held(waits[hand], shown) for hand in shown])
 
 
-def is_hand(hand, many):
-    """Whether this is one of so many hands; True and False are none."""
-    if not isinstance(hand, int) or isinstance(hand, bool):
-        return False
-    return 0 <= hand < many
+def is_below(number, many):
+    """Whether this is a whole number from nought on, and below so many."""
+    # Here and below a thing is asked for its very kind: True and False are no
+    # whole numbers, and what was handed in may raise or lie if isinstance asks
+    # it for its class, where it must be refused all the same.
+    return type(number) is int and 0 <= number < many
+
+
+def need_hand(hand, many):
+    """Refuse with NoHand what is none of so many hands."""
+    if not is_below(hand, many):
+        raise NoHand("there is no such hand")
 
 
 def need_hands(hands, many):
     """Refuse with NoHand what is no list of hands, of so many as there are."""
-    if not isinstance(hands, list):
+    if type(hands) is not list:
         raise NoHand("this is no list of hands")
     for hand in hands:
-        if not is_hand(hand, many):
-            raise NoHand("there is no such hand")
+        need_hand(hand, many)
 
 
 def is_wait(wait, many):
     """Whether this is a wait of one of so many hands."""
     if wait is None:
         return True
-    if not isinstance(wait, tuple) or len(wait) != 2:
+    if type(wait) is not tuple or len(wait) != 2:
         return False
     word, hands = wait
     # A word's kind comes first: what is no string may compare in any way.
-    if not isinstance(word, str) or word not in ("all", "any"):
+    if type(word) is not str or word not in ("all", "any"):
         return False
     return are_waited_for(hands, many)
 
 
 def are_waited_for(hands, many):
     """Whether this is a list of hands to wait for: one at least, none twice."""
-    if not isinstance(hands, list) or not hands:
+    if type(hands) is not list or not hands:
         return False
-    if not all([is_hand(hand, many) for hand in hands]):
+    if not all([is_below(hand, many) for hand in hands]):
         return False
     return len(set(hands)) == len(hands)
 

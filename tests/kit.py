@@ -72,6 +72,49 @@ class Touchy:
     __repr__ = __str__ = __iter__ = __contains__ = __getitem__ = refuse
 
 
+class Shy:
+    """Raises whatever it is asked for, its class included."""
+
+    def __getattribute__(self, name):
+        raise RuntimeError("do not ask")
+
+
+def liar(claimed):
+    """A thing that says that it is of a class of which it is not."""
+
+    class Liar:
+        __class__ = property(lambda self: claimed)
+
+    return Liar()
+
+
+class NearlyList(list):
+    """Made from a list, but measured and gone over in a way of its own."""
+
+    def __len__(self):
+        raise RuntimeError("no length")
+
+    def __iter__(self):
+        raise RuntimeError("no items")
+
+
+class NearlyInt(int):
+    """Made from a whole number, but compared in a way of its own."""
+
+    def compare(self, other):
+        raise RuntimeError("no order")
+
+    __lt__ = __le__ = __gt__ = __ge__ = __eq__ = compare
+    __hash__ = None
+
+
+# Of no kind that is asked for, and not to be touched to find that out.
+ODD_THINGS = (
+    Meddler(), Touchy(), Shy(), liar(int), liar(list), liar(tuple), liar(str),
+    NearlyList([None]), NearlyInt(0), 10 ** 5000, -10 ** 5000,
+)
+
+
 def snapshot(thing):
     """What a thing looks like, with the kinds of all that is in it."""
     if isinstance(thing, (list, tuple)):

@@ -6,7 +6,7 @@ from stuckbell import waits as waits_file
 from stuckbell.errors import BadWaits
 from stuckbell.waits import MOST_HANDS, freed, need, shows, stuck
 from tests.kit import (
-    NO_LISTS, NO_WAITS, Meddler, Touchy, all_waits, mixed_waits, refusal, snapshot,
+    NO_LISTS, NO_WAITS, ODD_THINGS, all_waits, mixed_waits, refusal, snapshot,
 )
 
 
@@ -70,8 +70,8 @@ class TestNoList(unittest.TestCase):
                 self.assertEqual(snapshot(waits), before)
 
     def test_odd_objects(self):
-        self.none_at_all(Meddler())
-        self.none_at_all(Touchy())
+        for odd in ODD_THINGS:
+            self.none_at_all(odd)
 
     def test_an_empty_list(self):
         self.none_at_all([])
@@ -139,8 +139,8 @@ class TestBadThings(unittest.TestCase):
         self.bad_at(waits, 39)
 
     def test_odd_objects(self):
-        for odd in (Meddler(), Touchy()):
-            for thing in (odd, (odd, [0]), ("all", odd), ("any", [odd])):
+        for odd in ODD_THINGS:
+            for thing in (odd, (odd, [0]), ("all", odd), ("any", [odd]), ("all", [0, odd])):
                 for call in CALLS:
                     self.assertEqual(refusal(self, BadWaits, call, [None, thing]).at, 1)
 

@@ -5,7 +5,7 @@ import unittest
 from stuckbell.errors import BadWaits, NoHand
 from stuckbell.waits import freed, shows, stuck
 from tests.kit import (
-    NO_HANDS, NO_LISTS, Meddler, Touchy, all_waits, mixed_waits, refusal,
+    NO_HANDS, NO_LISTS, ODD_THINGS, all_waits, mixed_waits, refusal,
     shown_by_the_words, snapshot, subsets,
 )
 
@@ -130,7 +130,7 @@ class TestRefusals(unittest.TestCase):
         refusal(self, NoHand, shows, waits, [0, 1, False])
 
     def test_odd_objects(self):
-        for odd in (Meddler(), Touchy(), 10 ** 5000):
+        for odd in ODD_THINGS:
             refusal(self, NoHand, shows, [None], [odd])
             refusal(self, NoHand, shows, [("all", [0])], [0, odd])
 
@@ -138,7 +138,8 @@ class TestRefusals(unittest.TestCase):
         for hands in NO_LISTS:
             with self.subTest(hands=hands):
                 refusal(self, NoHand, shows, [("all", [0])], hands)
-        refusal(self, NoHand, shows, [None], Touchy())
+        for odd in ODD_THINGS:
+            refusal(self, NoHand, shows, [None], odd)
 
 
 class TestTogether(unittest.TestCase):
